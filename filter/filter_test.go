@@ -580,6 +580,22 @@ func TestParseIsTheModels(t *testing.T) {
 	}
 }
 
+// What Name tells of a kind is what its filters' prints begin with; of other numbers there is none.
+func TestName(t *testing.T) {
+	for kind, f := range map[int]api.Filter{1: {Kind: 1}, 2: {Kind: 2, Form: "az"}, 3: {Kind: 3, Form: "d1"}} {
+		name, ok := filter.Name(kind)
+		s, _ := filter.Print(f)
+		if want, _, _ := strings.Cut(s, " "); name == "" || name != want || !ok {
+			t.Errorf("Name(%d): %q, %t; want %q", kind, name, ok, want)
+		}
+	}
+	for _, kind := range []int{0, 4, 5, -1, -2, -3, 256, 257, 258, 259, 1 << 32, 1<<32 + 1, math.MinInt, math.MinInt + 1, math.MaxInt} {
+		if name, ok := filter.Name(kind); name != "" || ok {
+			t.Errorf("Name(%d): %q, %t", kind, name, ok)
+		}
+	}
+}
+
 // P13.3
 
 func TestFiltersAndTheirPrintsAreOneToOne(t *testing.T) {
@@ -712,6 +728,9 @@ func TestManyMayAskAtOnce(t *testing.T) {
 				at, h := filter.Place(f, "abG")
 				if s != "class 5 azAF" || at != 2 || e != api.OK || g != api.OK || h != api.OK {
 					t.Error(f, s, at, e, g, h)
+				}
+				if name, ok := filter.Name(f.Kind); name != "class" || !ok {
+					t.Error(name, ok)
 				}
 			}
 		})
